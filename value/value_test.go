@@ -339,6 +339,9 @@ func TestFindPut(t *testing.T) {
 		wantExact(t, "Put into no map", Put(v, Num(1), Num(5)), v)
 		wantExact(t, "Put into no map, without it", Put(v, Num(1), Value{}), v)
 	}
+	// Such a pair makes a map that isn't right, but nothing is told that keeps it away.
+	wantExact(t, "Put of a key of another kind", Put(texts, Num(1), x), table(Pair{Num(1), x}, Pair{Str("B"), Num(1)}, Pair{Str("a"), Num(2)}))
+	wantExact(t, "Put of no part of a map", Put(Value{}, Num(1), list(Num(1))), table(p(1, list(Num(1)))))
 	wantExact(t, "Find in None", Find(Value{}, Num(1)), Value{})
 }
 
